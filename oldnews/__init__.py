@@ -1,0 +1,1 @@
+"""Oldnews: houses that set their lamps by old news."""

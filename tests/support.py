@@ -1,0 +1,141 @@
+"""What several tests need: small webs, and answers that are found without the package."""
+
+import itertools
+import random
+import unittest
+
+from oldnews.webs import Web
+
+# The webs of points 29 and 33.
+COPIES = (("rows", (1,), (0, 1)), ("rows", (0,), (0, 1)))
+OPPOSITES = (("rows", (1,), (1, 0)), ("rows", (0,), (1, 0)))
+
+# An integer that Python refuses to write out.
+VAST = 10 ** 5000
+
+
+def all_states(size):
+    return list(itertools.product((0, 1), repeat=size))
+
+
+def all_rooms(size):
+    return list(itertools.product((0, 1, 2), repeat=size))
+
+
+def all_groups(size):
+    return sorted(group for count in range(size + 1)
+                  for group in itertools.combinations(range(size), count))
+
+
+def all_orders(size):
+    return list(itertools.permutations(range(size)))
+
+
+def states_in_room(room):
+    return [state for state in all_states(len(room))
+            if all(mark in (2, digit) for mark, digit in zip(room, state))]
+
+
+def inside(room, other):
+    """Whether the states of the room are states of the other one (point 4)."""
+    return set(states_in_room(room)) <= set(states_in_room(other))
+
+
+def room_of(states):
+    """The least room that has the states, found among all rooms."""
+    rooms = [room for room in all_rooms(len(states[0]))
+             if set(states) <= set(states_in_room(room))]
+    return min(rooms, key=lambda room: room.count(2))
+
+
+def digit_at(row, state):
+    """The digit of a table row at a state, by points 7 and 8."""
+    kind, heard, body = row
+    if kind == "rows":
+        figures = "".join(str(state[house]) for house in heard)
+        return body[int("0" + figures, 2)]
+    signs = dict(heard)
+    met = [all(state[house] == (1 if signs[house] == 1 else 0) for house in term) for term in body]
+    return 1 if any(met) else 0
+
+
+def image_of(rows, state):
+    return tuple(digit_at(row, state) for row in rows)
+
+
+def bits_row(rng, size, most=4):
+    heard = sorted(rng.sample(range(size), rng.randint(0, min(most, size))))
+    return ("rows", tuple(heard), tuple(rng.randint(0, 1) for _ in range(2 ** len(heard))))
+
+
+def terms_row(rng, size, most=4):
+    heard = sorted(rng.sample(range(size), rng.randint(0, min(most, size))))
+    terms = []
+    for _ in range(rng.randint(0, 3)):
+        term = tuple(house for house in heard if rng.randint(0, 1))
+        if not any(set(term) <= set(other) or set(other) <= set(term) for other in terms):
+            terms.append(term)
+    return ("terms", tuple((house, rng.choice((1, -1))) for house in heard), tuple(sorted(terms)))
+
+
+def some_webs(size, many, seed=1, most=4):
+    """Some webs of so many houses with tables of both kinds, the same ones each time."""
+    rng = random.Random(seed * 100 + size)
+    return [Web([rng.choice((bits_row, terms_row))(rng, size, most) for _ in range(size)])
+            for _ in range(many)]
+
+
+def constant_web(size, digit=0):
+    """A web in which no house hears another one."""
+    return Web([("rows", (), (digit,))] * size)
+
+
+def copying_web(size):
+    """A web in which each house has the digit of its own lamp."""
+    return Web([("rows", (house,), (0, 1)) for house in range(size)])
+
+
+def listed(value):
+    """The same row with lists in place of all tuples."""
+    if isinstance(value, (list, tuple)):
+        return [listed(item) for item in value]
+    return value
+
+
+class Case(unittest.TestCase):
+    """A test case for the errors and the rows of the program."""
+
+    def refused(self, error, call, *args, **more):
+        """Asserts that the call raises just this error with the attributes `more`."""
+        with self.assertRaises(error) as caught:
+            call(*args)
+        self.assertIs(caught.exception.__class__, error)
+        for name, value in more.items():
+            self.assertEqual(getattr(caught.exception, name), value)
+            self.assertFrozen(getattr(caught.exception, name))
+        return caught.exception
+
+    def assertFrozen(self, value):
+        """Asserts that all rows are tuples and that no number is True or False."""
+        if value.__class__ is tuple:
+            for item in value:
+                self.assertFrozen(item)
+        else:
+            self.assertTrue(value is None or value.__class__ in (int, str))
+
+    def assertRow(self, found, wanted):
+        self.assertFrozen(found)
+        self.assertEqual(found, wanted)
+
+    def assertTruth(self, found, wanted):
+        self.assertIs(found, wanted)
+
+    def unchanged(self, call, *args, **more):
+        """Calls with tuples and with lists, and asserts that both agree and change nothing."""
+        found = call(*args, **more)
+        lists = listed(args)
+        keywords = {name: listed(more[name]) for name in more}
+        self.assertEqual(call(*lists, **keywords), found)
+        self.assertEqual(lists, listed(args))
+        self.assertEqual(keywords, {name: listed(more[name]) for name in more})
+        return found

@@ -1,0 +1,109 @@
+"""The interface: names, arguments, classes of errors, and where each is defined."""
+
+import importlib
+import inspect
+
+from oldnews import errors
+from oldnews.tables import RowsTable, Table, TermsTable
+from oldnews.webs import Web
+from tests.support import Case
+
+FUNCTIONS = {
+    "rows": ["free_houses(room)", "states_of(room)", "lies_within(room, other)",
+             "meet(first, *others)", "join(first, *others)"],
+    "tables": ["table_of(row, size)"],
+    "hearings": ["used_hearings(web, house)", "table_as_rows(web, house)",
+                 "table_as_terms(web, house)", "lean_web(web)", "same_tables(web, other)"],
+    "turning": ["turned_row(row, group)", "turned_web(web, group)"],
+    "ordering": ["inverse_order(order)", "reordered_row(order, row)",
+                 "reordered_group(order, group)", "reordered_web(order, web)"],
+    "joining": ["beside(*webs)"],
+    "writing": ["format_web(names, web)"],
+    "reading": ["read_web(text)"],
+    "closing": ["loose_houses(web, room, *, group=None)", "is_closed(web, room, *, group=None)"],
+    "leasts": ["least_room(web, room, *, group=None)",
+               "freeing_order(web, room, *, group=None, order=None)"],
+    "minimal": ["minimal_rooms(web)", "minimal_inside(web, room)", "is_minimal(web, room)"],
+    "roomlists": ["closed_rooms(web)", "closed_about(web, room)", "closed_inside(web, room)",
+                  "room_counts(web)"],
+    "resting": ["rests(web)", "image_room(web, room)"],
+    "looks": ["read_digits(web, states, look)", "window_room(states, age)"],
+    "runs": ["run_states(web, start, run)", "eldest_age(run)", "changed_houses(states)"],
+    "plainruns": ["plain_run(web, groups)", "plain_states(web, start, groups)",
+                  "plain_round(web, start, groups)"],
+    "newsearch": ["reached_by_news(web, start)"],
+}
+
+METHODS = {
+    ("tables", "RowsTable"): ["value(self, state)", "takes(self, room, digit)", "as_row(self)"],
+    ("tables", "TermsTable"): ["value(self, state)", "takes(self, room, digit)", "as_row(self)"],
+    ("webs", "Web"): ["__init__(self, rows)", "rows(self)", "hears(self, house)",
+                      "value(self, house, state)", "takes(self, house, room, digit)",
+                      "image(self, state)", "with_table(self, house, row)"],
+    ("walks", "Walk"): ["__init__(self, web, start)", "advance(self, looks)", "states(self)",
+                        "run(self)"],
+}
+
+ERRORS = {
+    "BadArgument": ("OldNewsError", []),
+    "BadHouse": ("BadArgument", ["house"]), "BadDigit": ("BadArgument", ["digit"]),
+    "BadState": ("BadArgument", ["row"]), "BadRoom": ("BadArgument", ["row"]),
+    "BadGroup": ("BadArgument", ["row"]), "BadOrder": ("BadArgument", ["row"]),
+    "BadNames": ("BadArgument", ["row"]), "BadLevels": ("BadArgument", ["row"]),
+    "BadHold": ("BadArgument", ["row"]), "BadRing": ("BadArgument", ["row"]),
+    "BadAge": ("BadArgument", ["age"]), "BadTop": ("BadArgument", ["top"]),
+    "BadEdit": ("BadArgument", ["kind"]),
+    "BadTable": ("OldNewsError", ["part"]), "BadSize": ("OldNewsError", ["count"]),
+    "BadWeb": ("OldNewsError", ["house", "part"]),
+    "TooLarge": ("OldNewsError", ["count", "limit"]),
+    "BadText": ("OldNewsError", ["line", "word"]),
+    "NotSigned": ("OldNewsError", ["house", "heard"]),
+    "BadRun": ("OldNewsError", ["beat", "place"]),
+    "NotServing": ("OldNewsError", []), "NeverReached": ("OldNewsError", []),
+    "IsReached": ("OldNewsError", []), "HearsOutside": ("OldNewsError", ["house"]),
+    "BadSigns": ("OldNewsError", ["house"]), "BadSighting": ("OldNewsError", ["place"]),
+    "Quarrel": ("OldNewsError", ["first", "second"]),
+    "DeskError": ("OldNewsError", []),
+    "NotHeld": ("DeskError", ["house"]), "NothingToUndo": ("DeskError", []),
+    "NothingToRedo": ("DeskError", []), "EditFailed": ("DeskError", ["place"]),
+}
+
+
+class InterfaceTest(Case):
+    def test_functions(self):
+        for name, heads in FUNCTIONS.items():
+            module = importlib.import_module("oldnews." + name)
+            for head in heads:
+                function = getattr(module, head.split("(")[0])
+                self.assertTrue(inspect.isfunction(function), head)
+                self.assertEqual(function.__module__, "oldnews." + name)
+                self.assertEqual(function.__name__ + str(inspect.signature(function)), head)
+
+    def test_methods_stand_in_their_class(self):
+        for (name, kind), heads in METHODS.items():
+            made = getattr(importlib.import_module("oldnews." + name), kind)
+            self.assertEqual(made.__module__, "oldnews." + name)
+            for head in heads:
+                method = vars(made)[head.split("(")[0]]
+                self.assertEqual(method.__name__ + str(inspect.signature(method)), head)
+
+    def test_properties_of_walk(self):
+        walk = importlib.import_module("oldnews.walks").Walk
+        self.assertIsInstance(vars(walk)["state"], property)
+        self.assertIsInstance(vars(walk)["beats"], property)
+
+    def test_tables_have_one_base(self):
+        self.assertEqual(RowsTable.__bases__, (Table,))
+        self.assertEqual(TermsTable.__bases__, (Table,))
+
+    def test_most_is_a_class_value(self):
+        self.assertEqual(vars(Web)["MOST"], 12)
+
+    def test_errors(self):
+        self.assertEqual(errors.OldNewsError.__bases__, (ValueError,))
+        for name, (base, attributes) in ERRORS.items():
+            made = getattr(errors, name)
+            self.assertEqual(made.__module__, "oldnews.errors")
+            self.assertEqual(made.__bases__, (getattr(errors, base),), name)
+            values = list(range(10, 10 + len(attributes)))
+            self.assertEqual(vars(made(*values)), dict(zip(attributes, values)))
