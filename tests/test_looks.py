@@ -30,7 +30,7 @@ class ReadDigitsTest(Case):
         self.refused(BadRun, read_digits, WEB, [(1, 0, 1)], (0, (0, 1)), beat=0, place=0)
 
     def test_looks_that_are_not_valid(self):
-        for look in ((3, ()), (-1, (0, 0)), (VAST, ()), (0, ()), (0, (0,)), (0, (0, 0, 0)),
+        for look in ((3, ()), (-1, ()), (-2, (0, 0, 0)), (-1, (0, 0)), (VAST, ()), (0, ()), (0, (0,)), (0, (0, 0, 0)),
                      (2, (0,)), (0, (0, 3)), (0, (-1, 0)), (0, (VAST, 0)), (1, (0, 0, -VAST))):
             self.refused(BadRun, read_digits, WEB, STATES, look, beat=2, place=0)
             self.refused(BadRun, read_digits, WEB, STATES, [look[0], list(look[1])],
