@@ -1,6 +1,7 @@
 """The checks of arguments, and the limits."""
 
-from oldnews.errors import BadDigit, BadGroup, BadHouse, BadNames, BadOrder, BadRoom, BadState, TooLarge
+from oldnews.errors import BadAge, BadDigit, BadGroup, BadHouse, BadLevels, BadNames
+from oldnews.errors import BadOrder, BadRoom, BadState, BadTop, TooLarge
 
 # Web.MOST is the same number: a class value is written out, and this file
 # cannot import from webs.py, which needs the checks itself.
@@ -26,6 +27,18 @@ def check_digit(digit):
     """Raises BadDigit if the digit is neither 0 nor 1."""
     if digit not in (0, 1):
         raise BadDigit(digit)
+
+
+def check_age(age):
+    """Raises BadAge if the age is below 0."""
+    if age < 0:
+        raise BadAge(age)
+
+
+def check_top(top, least):
+    """Raises BadTop if the top is below the least one."""
+    if top < least:
+        raise BadTop(top)
 
 
 def is_ascending(row):
@@ -62,14 +75,25 @@ def as_states(size, rows):
     return tuple([as_state(size, row) for row in rows])
 
 
+def as_any_state(row):
+    """Returns the state of a web of any size as a tuple. Raises BadState."""
+    if not is_size(len(row)):
+        raise BadState(tuple(row))
+    return as_state(len(row), row)
+
+
 def as_any_states(rows):
     """Returns the states of a web of any size as a tuple of tuples. Raises BadState."""
     if len(rows) == 0:
         raise BadState(())
-    first = tuple(rows[0])
-    if not is_size(len(first)):
-        raise BadState(first)
-    return as_states(len(first), rows)
+    return as_states(len(as_any_state(rows[0])), rows)
+
+
+def as_any_levels(top, row):
+    """Returns the levels, for the top, of a web of any size as a tuple. Raises BadLevels."""
+    if not is_size(len(row)) or not all(0 <= level <= top for level in row):
+        raise BadLevels(tuple(row))
+    return tuple(row)
 
 
 def as_room(size, row):

@@ -1,7 +1,7 @@
 """Looks at the states so far, and what can be read in them."""
 
-from oldnews.checks import as_any_states, as_states
-from oldnews.errors import BadAge, BadRun
+from oldnews.checks import as_any_states, as_states, check_age
+from oldnews.errors import BadRun
 from oldnews.rows import joined
 
 
@@ -17,8 +17,7 @@ def read_digits(web, states, look):
 def window_room(states, age):
     """Returns the join of the newest age + 1 states. Raises BadState, BadAge."""
     states = as_any_states(states)
-    if age < 0:
-        raise BadAge(age)
+    check_age(age)
     oldest = max(0, len(states) - 1 - age)
     return joined(states[oldest:])
 

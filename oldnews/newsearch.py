@@ -1,6 +1,8 @@
 """The states to which runs by old news lead."""
 
 from oldnews.checks import as_state, check_limit
+from oldnews.rows import replaced
+from oldnews.searching import steps_from
 
 # How many houses a web may have for a search through its runs.
 MOST_OF_NEWS = 4
@@ -15,15 +17,8 @@ def reached_by_news(web, start):
     check_limit(web.size, MOST_OF_NEWS)
     # What can follow depends on the newest state and on the digits that each
     # lamp has had so far, and these are the marks of the join of all states.
-    found = {(start, start): True}
-    waiting = [(start, start)]
-    while waiting:
-        state, shown = waiting.pop()
-        for after in after_one_look(web, state, shown):
-            if after not in found:
-                found[after] = True
-                waiting.append(after)
-    return tuple(sorted(set([pair[0] for pair in found])))
+    found = steps_from((start, start), lambda pair: after_one_look(web, pair[0], pair[1]))
+    return tuple(sorted(set([state for state, shown in found])))
 
 
 def after_one_look(web, state, shown):
@@ -35,6 +30,5 @@ def after_one_look(web, state, shown):
     pairs = []
     for house, digit in enumerate(state):
         if web.tables[house].takes(shown, 1 - digit):
-            after = state[:house] + (1 - digit,) + state[house + 1:]
-            pairs.append((after, shown[:house] + (2,) + shown[house + 1:]))
+            pairs.append((replaced(state, house, 1 - digit), replaced(shown, house, 2)))
     return pairs

@@ -100,3 +100,8 @@ def states_in(room):
 def digit_rows(count):
     """Returns the list of all rows of so many digits in ascending order."""
     return rows_over([(0, 1)] * count)
+
+
+def replaced(row, place, item):
+    """Returns the tuple with another item at the place."""
+    return row[:place] + (item,) + row[place + 1:]

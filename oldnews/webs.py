@@ -2,6 +2,7 @@
 
 from oldnews.checks import as_room, as_state, check_digit, check_house, is_size
 from oldnews.errors import BadSize, BadTable, BadWeb
+from oldnews.rows import replaced
 from oldnews.tables import table_of
 
 
@@ -48,8 +49,7 @@ class Web:
         """Returns the web with another table row of the house. Raises BadHouse, BadTable."""
         check_house(self.size, house)
         table = table_of(row, self.size)
-        rows = self.rows()
-        return Web(rows[:house] + (table.as_row(),) + rows[house + 1:])
+        return Web(replaced(self.rows(), house, table.as_row()))
 
 
 def tables_of_web(rows):

@@ -102,6 +102,35 @@ def listed(value):
     return value
 
 
+def takes_by_states(row, room, digit):
+    """Whether the table row has the digit at some state of the room (point 9)."""
+    return any(digit_at(row, state) == digit for state in states_in_room(room))
+
+
+def frozen_web(web, state, group):
+    """The web in which the houses outside the group keep their lamps of the state."""
+    return Web([row if house in group else ("rows", (), (state[house],))
+                for house, row in enumerate(web.rows())])
+
+
+def bad_states(size):
+    """Rows that are not states of a web of so many houses; the last ones have other sizes."""
+    return [(0,) * (size - 1) + (wrong,) for wrong in (2, -1, VAST, -VAST)] + [
+        (), (0,) * (size - 1), (1,) * (size + 1), (0,) * 13]
+
+
+def bad_rooms(size):
+    """Rows that are not rooms of a web of so many houses."""
+    return [(2,) * (size - 1) + (wrong,) for wrong in (3, -1, VAST, -VAST)] + [
+        (), (2,) * (size - 1), (2,) * (size + 1), (2,) * 13]
+
+
+def bad_groups(size):
+    """Rows that are not groups of a web of so many houses, from 2 houses on."""
+    return [(size,), (-1,), (0, 0), (1, 0), (0, size), (VAST,), (-VAST, 0),
+            tuple(range(size + 1))]
+
+
 class Case(unittest.TestCase):
     """A test case for the errors and the rows of the program."""
 
@@ -114,6 +143,22 @@ class Case(unittest.TestCase):
             self.assertEqual(getattr(caught.exception, name), value)
             self.assertFrozen(getattr(caught.exception, name))
         return caught.exception
+
+    def checked(self, call, good, *faults):
+        """Asserts that each fault is found, and that the one of the first parameter is raised.
+
+        The call takes the arguments `good`. A fault is the place of a parameter, an
+        error, its attribute and values that do not fit, in the order of the places.
+        """
+        for number, (place, error, name, values) in enumerate(faults):
+            for value in values:
+                wanted = tuple(value) if isinstance(value, list) else value
+                args = list(good)
+                args[place] = value
+                self.refused(error, call, *args, **{name: wanted})
+                for later, _, _, others in faults[number + 1:]:
+                    args[later] = others[0]
+                self.refused(error, call, *listed(args), **{name: wanted})
 
     def assertFrozen(self, value):
         """Asserts that all rows are tuples and that no number is True or False."""

@@ -32,6 +32,22 @@ FUNCTIONS = {
     "plainruns": ["plain_run(web, groups)", "plain_states(web, start, groups)",
                   "plain_round(web, start, groups)"],
     "newsearch": ["reached_by_news(web, start)"],
+    "agesearch": ["reached_by_age(web, start, age)", "fewest_beats(web, start, goal, age)",
+                  "youngest_age(web, start, goal)"],
+    "serving": ["serves(web, start, goal, group)", "run_by_group(web, start, goal, group)"],
+    "striking": ["strikes(web, start, goal)", "last_room(web, start, goal)",
+                 "strike_in_order(web, start, goal, order)"],
+    "reaching": ["reaches(web, start, goal)", "reached(web, start)",
+                 "reach_run(web, start, goal)"],
+    "refusing": ["refusal(web, start, goal)", "is_refusal(web, start, goal, claim)"],
+    "moving": ["reaches_within(web, start, goal, group)", "must_move(web, start, goal)",
+               "fewest_movers(web, start, goal)"],
+    "levels": ["corner(top, state)", "reading_room(top, levels)", "corner_state(top, levels)"],
+    "fineruns": ["fine_states(web, top, start, run)"],
+    "finesearch": ["fine_reached(web, top, start)", "fine_reached_singly(web, top, start)",
+                   "fine_lots(web, top)"],
+    "leading": ["fine_run_by_group(web, top, start, goal, group)",
+                "fine_from_news(web, top, start, run)", "news_from_fine(web, top, start, run)"],
 }
 
 METHODS = {
