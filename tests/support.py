@@ -85,6 +85,24 @@ def some_webs(size, many, seed=1, most=4):
             for _ in range(many)]
 
 
+def sticky_webs(size, many, seed=1):
+    """Some webs of up to 4 houses that keep most lamps as they are, so that they have many ends."""
+    rng = random.Random(seed * 100 + size)
+    webs = []
+    for _ in range(many):
+        rows = []
+        for house in range(size):
+            bits = [state[house] ^ (rng.randint(0, 3) == 0) for state in all_states(size)]
+            rows.append(("rows", tuple(range(size)), tuple(bits)))
+        webs.append(Web(rows))
+    return webs
+
+
+def both_webs(size, many, seed=1):
+    """Some webs of either sort."""
+    return some_webs(size, many // 2, seed) + sticky_webs(size, many, seed)
+
+
 def constant_web(size, digit=0):
     """A web in which no house hears another one."""
     return Web([("rows", (), (digit,))] * size)

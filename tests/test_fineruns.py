@@ -168,6 +168,9 @@ class BadMoveTest(Case):
         for step in (0, 2, -2, VAST, -VAST):
             self.bad(((0, step, (0,)),), 0)
             self.bad((BEAT[0], (1, step, (0,))), 1)
+        # The table of house 3 gives 0, and the level after the step would not be outside.
+        for step, lamp in ((0, 0), (0, 1), (-2, 1), (2, 0)):
+            self.bad(((3, step, (0, 0)),), 0, start=(0, 0, 0, lamp))
 
     def test_the_number_of_digits(self):
         for digits in ((), (0, 0), (0,) * 1000):

@@ -48,6 +48,20 @@ FUNCTIONS = {
                    "fine_lots(web, top)"],
     "leading": ["fine_run_by_group(web, top, start, goal, group)",
                 "fine_from_news(web, top, start, run)", "news_from_fine(web, top, start, run)"],
+    "endings": ["end_of(web, state)", "end_states(web)"],
+    "endsearch": ["closed_lots(web)", "slow_lots(web)"],
+    "fates": ["fates(web, start)", "is_decided(web, start)", "lamp_fates(web, start)",
+              "fates_of_all(web)"],
+    "doors": ["doors(web, state)", "safe_steps(web, state)", "is_last_chance(web, state, end)"],
+    "wishes": ["is_wish_sure(web, start, wish)", "is_wish_possible(web, start, wish)",
+               "wish_ends(web, wish)"],
+    "fatesearch": ["fates_by_search(web, start)", "wish_sure_by_search(web, start, wish)",
+                   "wish_possible_by_search(web, start, wish)"],
+    "meeting": ["can_meet(web, state, other)", "telling_groups(web, start)"],
+    "hearers": ["heard_by(web, house)", "is_upstream(web, group)", "pieces(web)"],
+    "piecewebs": ["piece_web(web, group)", "rim(web, group)", "with_piece(web, group, piece)",
+                  "part_of(row, group)", "put_back(row, group, part)"],
+    "behind": ["closed_behind(web, room, group)", "minimal_behind(web, room, group)"],
 }
 
 METHODS = {

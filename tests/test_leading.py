@@ -18,6 +18,7 @@ from tests.test_finesearch import runs_by_moves
 from tests.test_fineruns import BEAT, some_fine_run
 from tests.test_newsearch import runs_from
 from tests.test_runs import some_run
+from tests.test_serving import served_goals
 
 LOW_TOPS = [1, 0, -1, -VAST]
 NEWS = (((0, (0,)),), ((1, (1,)),))
@@ -71,17 +72,8 @@ class ByGroupTest(FineCase):
         self.assertGreater(served, 100)
 
     def test_large_webs(self):
-        rng = random.Random(18)
         for size in (6, 12):
-            for web in some_webs(size, 12, seed=30):
-                start = rng.choice(all_states(size))
-                group = tuple(house for house in range(size) if rng.randint(0, 3))
-                room = least_room(web, start, group=group)
-                free = tuple(house for house in range(size) if room[house] == 2)
-                goal = list(start)
-                for house in free:
-                    goal[house] = rng.choice([digit for digit in (0, 1)
-                                              if web.takes(house, room, digit)])
+            for web, start, goal, group, free in served_goals(size, 12, seed=30):
                 for top in (2, 32):
                     run = fine_run_by_group(web, top, start, goal, group)
                     self.check_fine(web, top, start, goal, run, free)

@@ -10,7 +10,7 @@ from oldnews.serving import serves
 from oldnews.striking import strikes
 from oldnews.webs import Web
 from tests.support import (
-    COPIES, OPPOSITES, Case, all_groups, all_states, bad_states, constant_web, some_webs,
+    COPIES, OPPOSITES, all_groups, all_states, bad_states, constant_web, some_webs,
 )
 from tests.test_runs import some_run
 from tests.test_serving import RunCase

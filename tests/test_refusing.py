@@ -9,7 +9,7 @@ from oldnews.refusing import is_refusal, refusal
 from oldnews.striking import strikes
 from oldnews.webs import Web
 from tests.support import (
-    COPIES, OPPOSITES, VAST, Case, all_groups, all_rooms, all_states, bad_groups, bad_rooms,
+    OPPOSITES, VAST, Case, all_groups, all_rooms, all_states, bad_groups, bad_rooms,
     bad_states, constant_web, inside, listed, some_webs,
 )
 from tests.test_closing import loose_by_states

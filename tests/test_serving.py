@@ -21,6 +21,22 @@ def serves_by_states(web, start, goal, group, room):
         for house in range(web.size) if room[house] == 2)
 
 
+def served_goals(size, many, seed):
+    """Some webs with a start, a goal and a group that serves them, and the free houses."""
+    rng = random.Random(seed)
+    found = []
+    for web in some_webs(size, many, seed):
+        start = rng.choice(all_states(size))
+        group = tuple(house for house in range(size) if rng.randint(0, 3))
+        room = least_room(web, start, group=group)
+        free = tuple(house for house in range(size) if room[house] == 2)
+        goal = list(start)
+        for house in free:
+            goal[house] = rng.choice([digit for digit in (0, 1) if web.takes(house, room, digit)])
+        found.append((web, start, tuple(goal), group, free))
+    return found
+
+
 class RunCase(Case):
     def check_run(self, web, start, goal, run, free):
         """Asserts what point 42 says of a run whose room has these free houses."""
@@ -100,23 +116,16 @@ class ServingTest(RunCase):
         self.assertGreater(served, 100)
 
     def test_large_webs(self):
-        rng = random.Random(5)
-        lengths = set()
         for size in (5, 8, 12):
-            for web in some_webs(size, 12, seed=3):
-                start = rng.choice(all_states(size))
-                group = tuple(house for house in range(size) if rng.randint(0, 3))
-                room = least_room(web, start, group=group)
-                free = tuple(house for house in range(size) if room[house] == 2)
-                goal = list(start)
-                for house in free:
-                    digits = [digit for digit in (0, 1) if web.takes(house, room, digit)]
-                    goal[house] = rng.choice(digits)
+            for web, start, goal, group, free in served_goals(size, 12, seed=3):
                 self.assertTruth(serves(web, start, goal, group), True)
                 run = run_by_group(web, start, goal, group)
-                self.check_run(web, start, tuple(goal), run, free)
-                lengths.add(len(run))
-        self.assertGreater(max(lengths), 8)
+                self.check_run(web, start, goal, run, free)
+        # Each house copies the one before it, and lamp 0 can go on.
+        web = Web([("rows", (), (1,))] + [("rows", (house,), (0, 1)) for house in range(11)])
+        for goal in ((1,) * 12, (1, 0) * 6, (1,) + (0,) * 11):
+            run = run_by_group(web, (0,) * 12, goal, tuple(range(12)))
+            self.check_run(web, (0,) * 12, goal, run, tuple(range(12)))
 
     def test_arguments(self):
         for web in (Web(COPIES), constant_web(12)):
