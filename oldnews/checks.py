@@ -1,6 +1,6 @@
 """The checks of arguments, and the limits."""
 
-from oldnews.errors import BadAge, BadDigit, BadGroup, BadHouse, BadLevels, BadNames
+from oldnews.errors import BadAge, BadDigit, BadGroup, BadHold, BadHouse, BadLevels, BadNames
 from oldnews.errors import BadOrder, BadRoom, BadState, BadTop, TooLarge
 
 # Web.MOST is the same number: a class value is written out, and this file
@@ -68,6 +68,13 @@ def as_state(size, row):
     return tuple(row)
 
 
+def as_start(size, row):
+    """Returns the start as a tuple, or None if there is none. Raises BadState."""
+    if row is None:
+        return None
+    return as_state(size, row)
+
+
 def as_states(size, rows):
     """Returns the row of one or more states as a tuple of tuples. Raises BadState."""
     if len(rows) == 0:
@@ -132,6 +139,15 @@ def as_group_or_all(size, row):
 def as_groups(size, rows):
     """Returns the row of groups as a tuple of tuples. Raises BadGroup."""
     return tuple([as_group(size, row) for row in rows])
+
+
+def as_hold(size, row):
+    """Returns the hold as a tuple of tuples. Raises BadHold."""
+    hold = tuple([tuple(pair) for pair in row])
+    houses = [house for house, digit in hold]
+    if not is_group(size, houses) or not all(digit in (0, 1) for house, digit in hold):
+        raise BadHold(hold)
+    return hold
 
 
 def as_order(size, row):

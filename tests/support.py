@@ -4,6 +4,7 @@ import itertools
 import random
 import unittest
 
+from oldnews.errors import BadSigns, BadSize
 from oldnews.webs import Web
 
 # The webs of points 29 and 33.
@@ -149,6 +150,85 @@ def bad_groups(size):
             tuple(range(size + 1))]
 
 
+def bad_holds(size):
+    """Rows of pairs that are not holds of a web of so many houses, from 2 houses on."""
+    return [((0, wrong),) for wrong in (2, -1, VAST, -VAST)] + [
+        ((house, 0),) for house in (size, -1, VAST, -VAST)] + [
+        ((0, 1), (0, 1)), ((0, 0), (0, 1)), ((1, 0), (0, 0)), ((0, 1), (1, 2)),
+        tuple((house, 1) for house in range(size + 1))]
+
+
+def all_holds(size, houses=None):
+    """All holds of a web of so many houses, or those of them with these houses at most."""
+    marks = [(0, 1, 2) if houses is None or house in houses else (2,) for house in range(size)]
+    return sorted(tuple((house, mark) for house, mark in enumerate(room) if mark != 2)
+                  for room in itertools.product(*marks))
+
+
+def held_by_hand(web, hold):
+    """The held web."""
+    digits = dict(hold)
+    return Web([("rows", (), (digits[house],)) if house in digits else row
+                for house, row in enumerate(web.rows())])
+
+
+def all_signs(size):
+    """All signed webs of so many houses, for 1 or 2 houses."""
+    choices = [[()] + [((house, sign),) for sign in (1, -1, 0)] for house in range(size)]
+    rows = [sum(parts, ()) for parts in itertools.product(*choices)]
+    return list(itertools.product(rows, repeat=size))
+
+
+def some_signs(size, many, seed=1, most=3):
+    """Some signed webs of so many houses, the same ones each time."""
+    rng = random.Random(seed * 100 + size)
+    found = []
+    for _ in range(many):
+        rows = []
+        for _ in range(size):
+            heard = sorted(rng.sample(range(size), rng.randint(0, min(most, size))))
+            rows.append(tuple((house, rng.choice((1, -1, 1, -1, 0))) for house in heard))
+        found.append(tuple(rows))
+    return found
+
+
+def keeps_by_states(row, hearings, size):
+    """Whether the table row keeps the hearings, found by switching each lamp at each state."""
+    signs = dict(hearings)
+    for state in all_states(size):
+        for house in range(size):
+            if state[house] == 0:
+                on = state[:house] + (1,) + state[house + 1:]
+                change = digit_at(row, on) - digit_at(row, state)
+                if change and (house not in signs or signs[house] == -change):
+                    return False
+    return True
+
+
+def tables_by_states(hearings, size):
+    """All table rows of kind `rows` with the houses of the hearings that keep them, ascending."""
+    heard = tuple(house for house, _ in hearings)
+    rows = [("rows", heard, bits) for bits in all_states(2 ** len(heard))]
+    return [row for row in rows if keeps_by_states(row, hearings, size)]
+
+
+def webs_by_states(signs):
+    """The rows of table rows of all webs that keep the signed web, ascending."""
+    return list(itertools.product(*[tables_by_states(hearings, len(signs)) for hearings in signs]))
+
+
+# Signed webs that are none, with the error, its attribute and the value of this.
+BAD_SIGNS = (
+    ((), BadSize, "count", 0), (((),) * 13, BadSize, "count", 13),
+    ((((2, 1),), ((2, 1),)), BadSigns, "house", 0), (((), ((-1, 1),)), BadSigns, "house", 1),
+    ((((0, 1), (0, 1)), ((0, 2),)), BadSigns, "house", 0),
+    ((((1, 1), (0, 1)), ()), BadSigns, "house", 0), (((), ((0, 2),)), BadSigns, "house", 1),
+    (((), ((0, 1), (1, -2))), BadSigns, "house", 1), ((((0, VAST),), ()), BadSigns, "house", 0),
+    ((((VAST, 1),), ()), BadSigns, "house", 0), ((((-VAST, 1),), ((9, 9),)), BadSigns, "house", 0),
+    (((),) * 5 + (tuple((house, 1) for house in range(5)),), BadSigns, "house", 5),
+)
+
+
 class Case(unittest.TestCase):
     """A test case for the errors and the rows of the program."""
 
@@ -177,6 +257,16 @@ class Case(unittest.TestCase):
                 for later, _, _, others in faults[number + 1:]:
                     args[later] = others[0]
                 self.refused(error, call, *listed(args), **{name: wanted})
+
+    def checked_signs(self, call, good, *faults):
+        """Does what `checked` does, for a call whose first argument is a signed web."""
+        self.checked(call, good, *faults)
+        for signs, error, name, value in BAD_SIGNS:
+            args = [signs] + list(good[1:])
+            self.refused(error, call, *args, **{name: value})
+            for place, _, _, values in faults:
+                args[place] = values[0]
+                self.refused(error, call, *listed(args), **{name: value})
 
     def assertFrozen(self, value):
         """Asserts that all rows are tuples and that no number is True or False."""

@@ -62,6 +62,23 @@ FUNCTIONS = {
     "piecewebs": ["piece_web(web, group)", "rim(web, group)", "with_piece(web, group, piece)",
                   "part_of(row, group)", "put_back(row, group, part)"],
     "behind": ["closed_behind(web, room, group)", "minimal_behind(web, room, group)"],
+    "piecewise": ["least_by_pieces(web, room)", "minimal_by_pieces(web)",
+                  "fates_by_pieces(web, start)"],
+    "holds": ["held_web(web, hold)", "held_row(row, hold)", "hold_of(room, group)",
+              "shows(room, shown)"],
+    "showing": ["failing_end(web, hold, shown, *, start=None)",
+                "all_show(web, hold, shown, *, start=None)", "kept_ends(web, hold)"],
+    "leastholds": ["holds_of(web, group, count)",
+                   "least_holds(web, shown, *, start=None, group=None, most=2)",
+                   "why_not(web, shown, hold, *, start=None)"],
+    "turns": ["held_fates(web, start, hold)", "fates_after(web, start, *holds)",
+              "can_steer(web, start, end, *holds)"],
+    "signed": ["as_signs(signs)", "signs_of(web)", "keeps_signs(web, signs)"],
+    "rings": ["rings(signs)", "ring_parities(signs, ring)", "rings_of(signs, parity)"],
+    "ringwebs": ["ring_web(signs, ring, parity)"],
+    "allwebs": ["tables_of(signs, house)", "web_count(signs)", "all_webs(signs)"],
+    "cutting": ["meets_rings(signs, group, parity)", "least_cuts(signs, parity)",
+                "most_ends(signs)"],
 }
 
 METHODS = {
