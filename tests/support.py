@@ -1,10 +1,11 @@
 """What several tests need: small webs, and answers that are found without the package."""
 
 import itertools
+import operator
 import random
 import unittest
 
-from oldnews.errors import BadSigns, BadSize
+from oldnews.errors import BadDigit, BadHouse, BadSighting, BadSigns, BadSize, BadState, Quarrel
 from oldnews.webs import Web
 
 # The webs of points 29 and 33.
@@ -229,6 +230,60 @@ BAD_SIGNS = (
 )
 
 
+def below_by_hand(hearings, state, other):
+    """Whether the state is below the other one, by point 103."""
+    orders = {1: operator.le, -1: operator.ge, 0: operator.eq}
+    return all(orders[sign](state[house], other[house]) for house, sign in hearings)
+
+
+def quarrels_by_hand(signs, seen):
+    return tuple(
+        (first, second) for first, (house, state, digit) in enumerate(seen)
+        for second, (other, above, told) in enumerate(seen)
+        if house == other and digit == 1 and told == 0 and below_by_hand(signs[house], state, above))
+
+
+def fitting_by_states(signs, seen):
+    """For each house, its table rows of point 91 by which all its sightings are right."""
+    return [[row for row in tables_by_states(hearings, len(signs))
+             if all(digit_at(row, state) == digit for other, state, digit in seen if other == house)]
+            for house, hearings in enumerate(signs)]
+
+
+def fits_by_states(signs, seen):
+    """The rows of table rows of all webs that fit, ascending."""
+    return list(itertools.product(*fitting_by_states(signs, seen)))
+
+
+def true_sightings(rng, signs, many):
+    """So many sightings of one web that keeps the signed web, so that they do not quarrel."""
+    rows = [rng.choice(tables_by_states(hearings, len(signs))) for hearings in signs]
+    seen = []
+    for _ in range(many):
+        house = rng.randrange(len(signs))
+        state = tuple(rng.randint(0, 1) for _ in signs)
+        seen.append((house, state, digit_at(rows[house], state)))
+    return tuple(seen)
+
+
+def any_sightings(rng, signs, many):
+    """So many sightings, which may quarrel."""
+    return tuple((rng.randrange(len(signs)), tuple(rng.randint(0, 1) for _ in signs),
+                  rng.randint(0, 1)) for _ in range(many))
+
+
+def bad_sightings(size):
+    """Items that are not sightings of a signed web of so many houses, with the error of each."""
+    state = (0,) * size
+    return [((house, state, 1), BadHouse, "house", house)
+            for house in (size, -1, VAST, -VAST)] + [
+        ((0, row, 1), BadState, "row", row) for row in bad_states(size)] + [
+        ((0, state, digit), BadDigit, "digit", digit) for digit in (2, -1, VAST, -VAST)] + [
+        # The first part that does not fit decides.
+        ((size, state + (0,), 2), BadHouse, "house", size),
+        ((0, state + (0,), 2), BadState, "row", state + (0,))]
+
+
 class Case(unittest.TestCase):
     """A test case for the errors and the rows of the program."""
 
@@ -267,6 +322,37 @@ class Case(unittest.TestCase):
             for place, _, _, values in faults:
                 args[place] = values[0]
                 self.refused(error, call, *listed(args), **{name: value})
+
+    def checked_seen(self, call, good, *faults):
+        """Does what `checked` does, for a call with a signed web and sightings as its first two.
+
+        The good arguments after the sightings fit each state of sightings.
+        """
+        self.checked_signs(call, good, *faults)
+        sighting = (0, (0,) * len(good[0]), 1)
+        for wrong, _, _, _ in bad_sightings(len(good[0])):
+            for place in (0, 2):
+                args = [good[0], (sighting,) * place + (wrong, (-1, (), 5))] + list(good[2:])
+                self.refused(BadSighting, call, *args, place=place)
+                for later, _, _, values in faults:
+                    args[later] = values[0]
+                self.refused(BadSighting, call, *listed(args), place=place)
+        for signs, error, name, value in BAD_SIGNS:
+            args = [signs, ((-1, (), 5),)] + list(good[2:])
+            self.refused(error, call, *args, **{name: value})
+
+    def quarrel_at_last(self, call, good, *faults):
+        """Asserts that a quarrel is found after all faults of arguments.
+
+        The good sightings of the call quarrel first at the places 1 and 0.
+        """
+        self.refused(Quarrel, call, *good, first=1, second=0)
+        self.refused(Quarrel, call, *listed(good), first=1, second=0)
+        for place, error, name, values in faults:
+            for value in values:
+                args = list(good)
+                args[place] = value
+                self.refused(error, call, *args, **{name: value})
 
     def assertFrozen(self, value):
         """Asserts that all rows are tuples and that no number is True or False."""

@@ -79,6 +79,22 @@ FUNCTIONS = {
     "allwebs": ["tables_of(signs, house)", "web_count(signs)", "all_webs(signs)"],
     "cutting": ["meets_rings(signs, group, parity)", "least_cuts(signs, parity)",
                 "most_ends(signs)"],
+    "rising": ["turned_signs(signs, group)", "rising_group(signs)"],
+    "blocks": ["sweep(web, state, blocks)", "hearing_tags(signs, blocks)",
+               "same_sweeps(signs, blocks, other)", "parting(signs, blocks, other)",
+               "blocks_for(signs, tags)"],
+    "records": ["quarrels(signs, seen)", "sightings_of(states)"],
+    "extremes": ["least_digit(signs, seen, house, state)",
+                 "greatest_digit(signs, seen, house, state)", "extreme_web(signs, seen, group)"],
+    "fits": ["fit_tables(signs, seen, house)", "fit_count(signs, seen)", "fits(signs, seen)"],
+    "surely": ["rest_certainty(signs, seen, state)", "closed_certainty(signs, seen, room)",
+               "digit_certainty(signs, seen, house, state)", "inner_room(signs, seen, start)",
+               "outer_room(signs, seen, start)", "inner_fit(signs, seen, start)",
+               "outer_fit(signs, seen, start)", "is_surely_minimal(signs, seen, room)"],
+    "asking": ["open_questions(signs, seen)", "best_question(signs, seen)"],
+    "verdicts": ["verdict(web, start, goal, *, top=2)",
+                 "is_verdict(web, start, goal, claim, *, top=2)"],
+    "edits": ["edited(names, web, hold, edit)", "agree_on(web, other, room)"],
 }
 
 METHODS = {
@@ -89,6 +105,20 @@ METHODS = {
                       "image(self, state)", "with_table(self, house, row)"],
     ("walks", "Walk"): ["__init__(self, web, start)", "advance(self, looks)", "states(self)",
                         "run(self)"],
+    ("records", "Record"): ["__init__(self, signs)", "see(self, house, state, digit)",
+                            "see_beat(self, state, after)", "forget(self)", "sightings(self)",
+                            "__iter__(self)"],
+    ("desk", "Desk"): ["__init__(self, names, web, *, hold=())", "make(self, edit)",
+                       "make_all(self, *edits)", "undo(self)", "redo(self)", "journal(self)",
+                       "least(self, state)", "kept(self)", "fates_of(self, state)",
+                       "explain(self, start, goal)", "report(self, state)", "save(self)",
+                       "twin(self)"],
+}
+
+PROPERTIES = {
+    ("walks", "Walk"): ["state", "beats"],
+    ("records", "Record"): ["many"],
+    ("desk", "Desk"): ["names", "web", "hold", "held"],
 }
 
 ERRORS = {
@@ -134,10 +164,16 @@ class InterfaceTest(Case):
                 method = vars(made)[head.split("(")[0]]
                 self.assertEqual(method.__name__ + str(inspect.signature(method)), head)
 
-    def test_properties_of_walk(self):
-        walk = importlib.import_module("oldnews.walks").Walk
-        self.assertIsInstance(vars(walk)["state"], property)
-        self.assertIsInstance(vars(walk)["beats"], property)
+    def test_properties_stand_in_their_class(self):
+        for (name, kind), properties in PROPERTIES.items():
+            made = getattr(importlib.import_module("oldnews." + name), kind)
+            for each in properties:
+                self.assertIsInstance(vars(made)[each], property)
+
+    def test_read_is_a_static_method(self):
+        desk = importlib.import_module("oldnews.desk").Desk
+        self.assertIsInstance(vars(desk)["read"], staticmethod)
+        self.assertEqual(str(inspect.signature(desk.read)), "(text)")
 
     def test_tables_have_one_base(self):
         self.assertEqual(RowsTable.__bases__, (Table,))
