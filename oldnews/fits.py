@@ -55,7 +55,7 @@ def fit_choices(signs, seen):
 
 
 def tables_fitting(signs, seen, house):
-    """Returns the list of the table rows by which each sighting of the house is right, ascending."""
+    """Returns the list of the table rows of a house by which its sightings are right, ascending."""
     known = [(heard_digits(signs[house], state), digit)
              for other, state, digit in seen if other == house]
     return [row for row in tables_keeping(signs[house]) if is_right(row, known)]

@@ -86,6 +86,12 @@ class RisingTest(Case):
         # Between two pieces every sign may stay.
         self.assertRow(rising_group((((1, -1),), ((1, 1),), ((0, 0), (1, -1)))), ())
 
+    def test_pieces_that_are_not_in_the_order_of_the_houses(self):
+        # The piece of the houses 1 and 3 comes first, since house 0 hears house 1.
+        signs = (((1, 1), (2, -1)), ((3, -1),), ((0, -1),), ((1, -1),))
+        self.assertEqual(pieces_of_signs(signs), ((1, 3), (0, 2)))
+        self.assertRow(rising_group(signs), (2, 3))
+
     def test_against_all_groups(self):
         kinds = set()
         for signs in all_signs(1) + all_signs(2) + some_signs(3, 60, seed=123, most=2) + some_signs(
