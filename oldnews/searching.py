@@ -12,7 +12,8 @@ def steps_from(first, following):
     newest = [first]
     while newest:
         further = []
-        for item in newest:
+        # A copy is walked, since the list that this loop fills is the next one to be walked.
+        for item in list(newest):
             for after in following(item):
                 if after not in counts:
                     counts[after] = counts[item] + 1
